@@ -1,6 +1,6 @@
-"""The land of some lines: its places and its legs."""
+"""The land of some lines: its places, its legs, and where one can stay."""
 
-from seasonland.lines import BOTH_WAYS, ONE_WAY, PLACE
+from seasonland.lines import BOTH_WAYS, LAST_DAY, NO_STAY, ONE_WAY, PLACE
 
 MOST_LINES = 40
 MOST_PLACES = 12
@@ -13,6 +13,23 @@ class Leg:
         self.begin = begin
         self.end = end
         self.windows = windows
+
+
+class Land:
+    """All legs, and for each place, for each day, whether one can stay there."""
+
+    def __init__(self, legs, stays):
+        self.legs = legs
+        self.stays = stays
+
+    def can_stay(self, place, first, behind):
+        """Whether one can stay at a place on each day from the first up to the one before that behind them."""
+        return all(self.stays[place][first:behind])
+
+
+def land_told(lines):
+    """The land that these lines tell."""
+    return Land(legs_told(lines), stays_told(lines))
 
 
 def place_names(lines):
@@ -50,3 +67,23 @@ def legs_of_line(line, names):
     if line.kind == BOTH_WAYS:
         legs.append(Leg(second, first, line.windows))
     return legs
+
+
+def arrival(leg, day):
+    """The day on which one is at a leg's end, who starts on this day; None if the leg isn't open then."""
+    for window in leg.windows:
+        if window[0] <= day <= window[1]:
+            return day + window[2]
+    return None
+
+
+def stays_told(lines):
+    """For each place, for each day, whether one can stay there."""
+    names = place_names(lines)
+    stays = [[True] * (LAST_DAY + 1) for name in names]
+    for line in lines:
+        if line.kind == NO_STAY and line.names[0] in names:
+            place = names.index(line.names[0])
+            for day in range(line.stretch[0], line.stretch[1] + 1):
+                stays[place][day] = False
+    return stays

@@ -36,6 +36,42 @@ def leg(i):
     return [8, i]
 
 
+def when(x, t, y):
+    return [9, x, t, y]
+
+
+def days(x, t, y):
+    return [10, x, t, y]
+
+
+def latest(x, y, last_day):
+    return [11, x, y, last_day]
+
+
+def safe(x, y, last_day):
+    return [12, x, y, last_day]
+
+
+def way(x, t, y):
+    return [13, x, t, y]
+
+
+def check(x, t, starts):
+    return [14, x, t, len(starts)] + list(starts)
+
+
+def around(x, t, y, stays, last_day):
+    return [15, x, t, y, stays, last_day]
+
+
+def open_legs(d):
+    return [16, d]
+
+
+def stay(x, d):
+    return [17, x, d]
+
+
 def taken_apart(told):
     """The answers, one list each."""
     parts = []

@@ -34,6 +34,8 @@ WORDS_NOWHERE = re.compile(
     r"\b(type|typing|typing_extensions|enum|Enum|IntEnum|StrEnum|Flag|IntFlag|Generic|Protocol|ABC|ABCMeta|namedtuple"
     r"|NamedTuple|TypedDict|TYPE_CHECKING|abstractmethod)\b|dataclass|overload|contextmanager")
 
+WALKERS = set("list tuple dict sorted sum any all enumerate zip min max".split())
+
 NAMES_NOWHERE = set("register mro elements open input version_info with_traceback add_note format format_map".split())
 
 
@@ -150,6 +152,16 @@ class TestLanguage(unittest.TestCase):
             self.assertEqual(set(within) & set(top), set(), path)
             for node in nodes(tree, ast.Name):
                 self.assertIn(node.id, set(top) | set(within) | ALLOWED_BUILTINS, path)
+
+    def test_ranges_and_their_like_are_walked_at_once(self):
+        for path, tree in self.trees.items():
+            walked = [node.iter for node in nodes(tree, ast.For, ast.comprehension)]
+            for node in nodes(tree, ast.Call):
+                if isinstance(node.func, ast.Name) and node.func.id in WALKERS:
+                    walked += node.args[:1]
+            for node in nodes(tree, ast.Call):
+                if isinstance(node.func, ast.Name) and node.func.id in ("zip", "enumerate", "reversed", "range"):
+                    self.assertTrue([each for each in walked if each is node], f"{path}:{node.lineno}")
 
     def test_methods_and_values(self):
         own = own_names(self.trees.values())
